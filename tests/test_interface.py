@@ -1,0 +1,204 @@
+"""The interface, and those rules of the language that can be seen in the code of each file."""
+
+import ast
+import builtins
+import inspect
+import re
+import unittest
+from importlib import import_module
+from pathlib import Path
+
+PACKAGE = Path(__file__).parent.parent / "allteams"
+PATHS = sorted(PACKAGE.rglob("*.py"))
+
+FUNCTIONS = {
+    "kinds": {
+        "choices": "(many, few)",
+        "team_count": "(sizes, games)",
+        "due_of": "(sizes, games, kind)",
+        "class_of": "(sizes, person)",
+        "check_setting": "(sizes, games)",
+        "all_kinds": "(sizes, games)",
+        "is_kind": "(sizes, games, value)",
+        "team_kind": "(sizes, team)",
+        "teams_of": "(sizes, kind)",
+    },
+}
+METHODS = {
+    ("tables", "Table"): {
+        "__init__": "(self, sizes, games, rounds)",
+        "__len__": "(self)",
+        "__eq__": "(self, other)",
+        "number": "(self, at, kind)",
+        "teams": "(self, at, size=None)",
+        "places": "(self, at, index)",
+        "sums": "(self)",
+        "fault": "(self)",
+        "merged": "(self, one, other)",
+        "moved": "(self, order)",
+        "text": "(self)",
+    },
+}
+PROPERTIES = {("tables", "Table"): ["sizes", "games", "rounds"]}
+CLASS_METHODS = {("tables", "Table"): {"read": "(cls, text)"}}
+
+BUILTINS = """
+    len range enumerate zip min max sum abs sorted reversed int str bool bytes list tuple dict set frozenset isinstance
+    ord repr any all divmod iter next Exception ValueError TypeError KeyError IndexError LookupError ZeroDivisionError
+    ArithmeticError OverflowError RuntimeError NotImplementedError AttributeError StopIteration NotImplemented
+    property classmethod staticmethod super
+""".split()
+NO_WORDS = """
+    type typing typing_extensions enum Enum IntEnum StrEnum Flag IntFlag Generic Protocol ABC ABCMeta namedtuple
+    NamedTuple TypedDict TYPE_CHECKING abstractmethod
+""".split()
+NO_NAMES = """
+    register mro elements open input law version_info with_traceback add_note attrgetter breakpoint builtins compile
+    copyright credits delattr dir eval exec exit gc getattr globals hasattr help id importlib license locals
+    methodcaller os quit setattr type vars sys
+""".split()
+NO_NODES = (
+    ast.Global, ast.AsyncFunctionDef, ast.AsyncFor, ast.AsyncWith, ast.Await, ast.Import, ast.Div, ast.GeneratorExp,
+    ast.NamedExpr,
+)
+BUILTIN_VALUES = [str, bytes, int, list, tuple, dict, set]
+
+
+def defined(tree):
+    """The names that are bound at module level."""
+    for row in tree.body:
+        if isinstance(row, (ast.FunctionDef, ast.ClassDef)):
+            yield row.name
+        elif isinstance(row, ast.Assign):
+            yield from [target.id for target in row.targets]
+        elif isinstance(row, ast.ImportFrom):
+            yield from [name.asname or name.name for name in row.names]
+
+
+def bound(tree):
+    """The names that functions, classes, parameters, assignments and loops bind anywhere in a file."""
+    for node in ast.walk(tree):
+        if isinstance(node, (ast.FunctionDef, ast.ClassDef)):
+            yield node.name
+        elif isinstance(node, ast.arg):
+            yield node.arg
+        elif isinstance(node, ast.Name) and isinstance(node.ctx, ast.Store):
+            yield node.id
+
+
+class Interface(unittest.TestCase):
+    def test_functions(self):
+        for module, functions in FUNCTIONS.items():
+            for name, told in functions.items():
+                function = getattr(import_module(f"allteams.{module}"), name)
+                self.assertEqual(str(inspect.signature(function)), told, name)
+                self.assertEqual(function.__module__, f"allteams.{module}")
+
+    def test_methods_are_defined_in_their_class(self):
+        for (module, name), methods in METHODS.items():
+            found = getattr(import_module(f"allteams.{module}"), name)
+            self.assertEqual(found.__module__, f"allteams.{module}")
+            for method, told in methods.items():
+                self.assertEqual(str(inspect.signature(vars(found)[method])), told, method)
+            for method in PROPERTIES[module, name]:
+                self.assertIsInstance(vars(found)[method], property)
+                self.assertIsNone(vars(found)[method].fset)
+            for method, told in CLASS_METHODS[module, name].items():
+                self.assertIsInstance(vars(found)[method], classmethod)
+                self.assertEqual(str(inspect.signature(vars(found)[method].__func__)), told, method)
+
+
+class Language(unittest.TestCase):
+    def setUp(self):
+        self.trees = {path: ast.parse(path.read_text()) for path in PATHS}
+
+    def test_files_lines_and_signs(self):
+        self.assertIn(PACKAGE / "__init__.py", PATHS)
+        for path in PATHS:
+            text = path.read_text()
+            self.assertRegex(path.stem, "^[a-z][a-z0-9]*$|^__init__$")
+            self.assertTrue(all(" " <= sign <= "~" or sign == "\n" for sign in text), path)
+            self.assertLessEqual(len(text.splitlines()), 399, path)
+            self.assertLessEqual(max(len(line) for line in text.splitlines()), 120, path)
+            self.assertEqual([word for word in NO_WORDS if re.search(rf"\b{word}\b", text)], [], path)
+            self.assertIsNone(re.search("dataclass|overload|contextmanager", text), path)
+
+    def test_functions_have_at_most_40_lines(self):
+        for path, tree in self.trees.items():
+            for node in ast.walk(tree):
+                if isinstance(node, ast.FunctionDef):
+                    self.assertLessEqual(node.end_lineno - node.lineno + 1, 40, f"{path.name}: {node.name}")
+
+    def test_imports_name_the_file_that_defines_the_name(self):
+        for path, tree in self.trees.items():
+            for node in ast.walk(tree):
+                if isinstance(node, ast.ImportFrom):
+                    self.assertEqual((node.level, node.module.split(".")[0]), (0, "allteams"), path)
+                    there = self.trees[PACKAGE / (node.module.split(".")[1] + ".py")]
+                    names = [row.name for row in there.body if isinstance(row, (ast.FunctionDef, ast.ClassDef))]
+                    names += [row.targets[0].id for row in there.body if isinstance(row, ast.Assign)]
+                    for name in node.names:
+                        self.assertIsNone(name.asname)
+                        self.assertIn(name.name, names, path)
+
+    def test_all_imports_are_used(self):
+        for path, tree in self.trees.items():
+            imported = [name.name for row in tree.body if isinstance(row, ast.ImportFrom) for name in row.names]
+            used = [node.id for node in ast.walk(tree) if isinstance(node, ast.Name)]
+            self.assertEqual([name for name in imported if name not in used], [], path)
+
+    def test_module_level(self):
+        for path, tree in self.trees.items():
+            names = list(defined(tree))
+            self.assertEqual(len(names), len(set(names)), path)
+            for row in tree.body:
+                told = isinstance(row, ast.Expr) and isinstance(row.value, ast.Constant)
+                self.assertTrue(told or isinstance(row, (ast.FunctionDef, ast.ClassDef, ast.Assign, ast.ImportFrom)))
+
+    def test_names(self):
+        for path, tree in self.trees.items():
+            top = list(defined(tree))
+            names = list(bound(tree))
+            imported = [name.name for row in tree.body if isinstance(row, ast.ImportFrom) for name in row.names]
+            classes = [row.name for row in tree.body if isinstance(row, ast.ClassDef)]
+            told = [name for name in names if name.startswith("_") and not re.fullmatch("__[a-z]+__", name)]
+            self.assertEqual(told, [], path)
+            self.assertEqual([name for name in names if name in NO_NAMES], [], path)
+            told = [name for name in names if hasattr(builtins, name) and not name.startswith("_")]
+            self.assertEqual(told, [], path)
+            self.assertEqual([name for name in names if name in imported], [], path)
+            self.assertEqual(sorted(name for name in names if name in classes), sorted(classes), path)
+            for node in ast.walk(tree):
+                if isinstance(node, ast.Name) and isinstance(node.ctx, ast.Load):
+                    self.assertIn(node.id, top + names + BUILTINS, path)
+
+    def test_nodes(self):
+        for path, tree in self.trees.items():
+            for node in ast.walk(tree):
+                self.assertNotIsInstance(node, NO_NODES, path)
+                if isinstance(node, ast.Constant):
+                    self.assertNotIsInstance(node.value, float)
+                    if isinstance(node.value, str):
+                        self.assertNotIn("%", node.value)
+                if isinstance(node, (ast.Set, ast.SetComp)):
+                    self.fail(f"{path.name}: look whether L24 allows this set, line {node.lineno}")
+                if isinstance(node, ast.Compare) and any(isinstance(sign, (ast.Is, ast.IsNot)) for sign in node.ops):
+                    self.assertIn(getattr(node.comparators[0], "value", 0), (None, True, False))
+
+    def test_no_name_is_a_method_here_and_an_attribute_there(self):
+        methods, attributes = set(), set()
+        for tree in self.trees.values():
+            for node in ast.walk(tree):
+                if isinstance(node, ast.ClassDef):
+                    methods |= {row.name for row in node.body if isinstance(row, ast.FunctionDef)}
+                if isinstance(node, ast.Attribute) and isinstance(node.ctx, ast.Store):
+                    attributes.add(node.attr)
+        self.assertEqual(methods & attributes, set())
+        told = {name for name in methods if not name.startswith("__")}
+        self.assertEqual({name for name in told for kind in BUILTIN_VALUES if hasattr(kind, name)}, set())
+        allowed = {"count", "index", "title", "find", "get", "join", "lower", "upper", "split", "strip", "copy", "add"}
+        self.assertEqual({name for name in attributes for kind in BUILTIN_VALUES if hasattr(kind, name)} - allowed, set())
+
+
+if __name__ == "__main__":
+    unittest.main()
