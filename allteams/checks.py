@@ -19,3 +19,10 @@ def is_list(value):
 def is_order(value, many):
     """Tell whether a value is a list that has each integer from 0 to many - 1 just once."""
     return is_list(value) and all([is_integer(item) for item in value]) and sorted(value) == list(range(many))
+
+
+def are_classes(people, value):
+    """Tell whether a value is a list of lists that are not empty and have each of so many people just once."""
+    if not is_list(value) or not all([is_list(members) and len(members) > 0 for members in value]):
+        return False
+    return is_order([person for members in value for person in members], people)

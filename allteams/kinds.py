@@ -1,7 +1,7 @@
 """Settings of sizes and games, and the kinds of teams that they have."""
 
 from allteams.checks import is_list, is_within
-from allteams.errors import BadGames, BadKind, BadPerson, BadSizes, BadTeam, TooMany
+from allteams.errors import BadGames, BadKind, BadPeople, BadPerson, BadSizes, BadTeam, TooMany
 
 MOST_TEAMS = 130
 MOST_ROUNDS = 130
@@ -48,15 +48,31 @@ def check_sizes(sizes):
         raise BadSizes(sizes)
 
 
-def check_setting(sizes, games):
-    """Raise an error unless these are sizes and games with few enough teams."""
-    check_sizes(sizes)
-    people = sum(sizes)
+def check_games(people, games):
+    """Raise an error unless these are games for so many people, with few enough teams."""
     if not are_games(people, games):
         raise BadGames(games)
     total = total_of(people, games)
     if total > MOST_TEAMS:
         raise TooMany(total)
+
+
+def check_setting(sizes, games):
+    """Raise an error unless these are sizes and games with few enough teams."""
+    check_sizes(sizes)
+    check_games(sum(sizes), games)
+
+
+def are_people(value):
+    """Tell whether a value is a number of people."""
+    return is_within(value, 1, MOST_PEOPLE)
+
+
+def check_people(people, games):
+    """Raise an error unless these are a number of people and games with few enough teams."""
+    if not are_people(people):
+        raise BadPeople(people)
+    check_games(people, games)
 
 
 def team_count(sizes, games):
@@ -145,6 +161,11 @@ def parts_of(first, behind, few):
     if few == 0:
         return [()]
     return [(person, *rest) for person in range(first, behind) for rest in parts_of(person + 1, behind, few - 1)]
+
+
+def all_teams(people, games):
+    """Return the list of all teams in order, where the people and the games are known to be right."""
+    return [team for size in sorted(games) for team in parts_of(0, people, size)]
 
 
 def teams_of(sizes, kind):

@@ -3,10 +3,7 @@
 from allteams.checks import is_integer, is_list, is_order, is_within
 from allteams.errors import BadClasses, BadIndex, BadKind, BadNumber, BadRound, BadRounds, BadText
 from allteams.kinds import MOST_ROUNDS, all_kinds, are_sizes, check_setting, due_of, is_kind_of
-from allteams.texts import games_in, games_line, integer_in, line_at, lines_of, words_behind
-
-# The sizes and the games stand above the rounds.
-LINES_ABOVE = 2
+from allteams.texts import comma_word, games_in, games_line, integer_in, line_at, lines_of, rounds_in, words_behind
 
 
 class Table:
@@ -126,7 +123,8 @@ class Table:
         games = games_in(line_at(lines, 1), sum(sizes))
         if games is None:
             raise BadText(2)
-        return cls(sizes, games, rounds_in(lines, all_kinds(sizes, games)))
+        words = {comma_word(kind): kind for kind in all_kinds(sizes, games)}
+        return cls(sizes, games, rounds_in(lines, row_in, words))
 
 
 def has_place(key):
@@ -188,14 +186,9 @@ def sizes_in(line):
     return sizes
 
 
-def kind_word(kind):
-    """Return the word of a text that tells a kind."""
-    return ",".join([str(few) for few in kind])
-
-
 def round_line(row):
     """Return the line of a text that tells a round, whose kinds stand in order."""
-    return " ".join(["round"] + [f"{kind_word(kind)}:{row[kind]}" for kind in row])
+    return " ".join(["round"] + [f"{comma_word(kind)}:{row[kind]}" for kind in row])
 
 
 def row_in(line, kinds):
@@ -215,15 +208,3 @@ def row_in(line, kinds):
     if round_line(row) != line:
         return None
     return row
-
-
-def rounds_in(lines, kinds):
-    """Return the rounds that the lines of a text tell behind the sizes and the games."""
-    words = {kind_word(kind): kind for kind in kinds}
-    rounds = []
-    for at in range(LINES_ABOVE, max(len(lines), LINES_ABOVE + 1)):
-        row = row_in(line_at(lines, at), words)
-        if row is None or len(rounds) == MOST_ROUNDS:
-            raise BadText(at + 1)
-        rounds.append(row)
-    return rounds

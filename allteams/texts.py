@@ -1,9 +1,11 @@
 """Integers, games and lines as they stand in texts."""
 
 from allteams.errors import BadText
-from allteams.kinds import MOST_TEAMS, are_games, total_of
+from allteams.kinds import MOST_ROUNDS, MOST_TEAMS, are_games, total_of
 
 MOST_DIGITS = 30
+# The people or their sizes, and the games, stand above the rounds.
+LINES_ABOVE = 2
 
 
 def integer_in(word):
@@ -57,3 +59,19 @@ def games_in(line, people):
     if total_of(people, games) > MOST_TEAMS:
         return None
     return games
+
+
+def comma_word(numbers):
+    """Return the word of a text that tells a kind or a team."""
+    return ",".join([str(number) for number in numbers])
+
+
+def rounds_in(lines, reading, words):
+    """Return what reading makes of each line of a round, given all words for it; it returns None for a wrong line."""
+    rounds = []
+    for at in range(LINES_ABOVE, max(len(lines), LINES_ABOVE + 1)):
+        row = reading(line_at(lines, at), words)
+        if row is None or len(rounds) == MOST_ROUNDS:
+            raise BadText(at + 1)
+        rounds.append(row)
+    return rounds

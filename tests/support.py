@@ -1,9 +1,11 @@
 """What several tests share."""
 
 import math
+import re
 from itertools import combinations
 
 from allteams import errors
+from allteams.plans import Plan
 
 NO_INTEGERS = [True, False, None, "1", "", b"1", 1.0, [], [1], (), (1,), {}, {1: 1}, {1}, len]
 NO_LISTS = [True, False, None, 0, 1, -1, 1.5, "", "1", "(1,)", b"\x01", {}, {1: 1}, {0: 1}, {1}, range(1), len]
@@ -62,10 +64,34 @@ TOO_MANY = [
     ([8], {2: 1, 3: 2}, 140), ([1] * 10, {4: 3, 3: 3}, 990), ([10], {2: 3}, 135), ([10], {1: 2, 3: 1}, 140),
 ]
 
+WRONG_PEOPLE = [*NO_INTEGERS, 0, -1, 11, 10**29, -(10**29), [4], (4,), "4", 4.0]
+
 SETTINGS = [
     ([1], {1: 1}), ([1], {1: 3}), ([4], {2: 1}), ([2, 2], {3: 1}), ([2, 2], {2: 1}), ([1, 1, 1], {2: 2, 1: 3}),
     ([2, 3], {2: 1, 3: 2}), ([3, 2, 1], {4: 1, 1: 2}), ([1, 4, 1], {3: 3}), ([10], {3: 1, 1: 1}),
     ([1] * 10, {3: 1, 1: 1}), ([5, 5], {2: 2, 1: 3}), ([4, 1, 4], {4: 1}), ([1, 2, 3, 3], {3: 1, 2: 1}),
+]
+
+# Each row: a number of people, and games for them.
+PEOPLE = [
+    (1, {1: 1}), (1, {1: 3}), (2, {2: 2, 1: 1}), (3, {2: 3}), (3, {3: 2}), (4, {2: 1}), (4, {1: 2, 3: 1}), (4, {4: 3}),
+    (5, {2: 2}), (5, {4: 1, 2: 3}), (6, {3: 1}), (6, {3: 2, 2: 1}), (7, {3: 1, 4: 1}), (8, {1: 3, 2: 3}), (9, {4: 1}),
+    (10, {3: 1, 1: 1}), (10, {2: 2}),
+]
+
+# Each row: a number of people, and a value that does not part them in classes.
+WRONG_CLASSES = [
+    *[(3, value) for value in NO_LISTS],
+    *[(3, [[0, 1, 2], value]) for value in NO_LISTS],
+    *[(3, [[0, 1], [value]]) for value in NO_INTEGERS],
+    *[(1, [value]) for value in NO_LISTS],
+    *[(1, [[value]]) for value in NO_INTEGERS],
+    (3, []), (3, ()), (3, [[]]), (3, [[], [0, 1, 2]]), (3, [[0, 1, 2], ()]), (3, [[0, 1], [], [2]]), (3, [[0, 1]]),
+    (3, [[0], [2]]), (3, [[1, 2]]), (3, [[0, 1, 2, 3]]), (3, [[0, 1, 2], [3]]), (3, [[-1, 0, 1, 2]]), (3, [[0, 1, 3]]),
+    (3, [[-1, 0, 1]]), (3, [[0, 1, 1]]), (3, [[0, 1, 2, 2]]), (3, [[0, 1], [1, 2]]), (3, [[0, 1], [2], [0]]),
+    (3, [[0, 1, 2], [0, 1, 2]]), (3, [[0, 1, 10**29]]), (3, [0, 1, 2]), (3, [[[0, 1, 2]]]), (3, [[[0], [1], [2]]]),
+    (3, [[0, 1, True]]), (3, [[False, 1, 2]]), (3, [[0, 1, 2.0]]), (3, ["012"]), (3, [{0: 1, 1: 1, 2: 1}]), (3, "012"),
+    (2, [{0, 1}]), (2, [range(2)]), (2, {0: [0], 1: [1]}), (2, [b"\x00\x01"]), (1, [[0], [0]]), (1, [[0, 0]]),
 ]
 
 
@@ -100,6 +126,52 @@ def total(people, games):
     return sum(times * math.comb(people, size) for size, times in games.items())
 
 
+def teams_in_order(people, games):
+    return [team for size in sorted(games) for team in combinations(range(people), size)]
+
+
+def dealt_out(people, games, rounds):
+    """The rounds of a plan: each playing of each team, in no special order, in one of so many rounds."""
+    playings = [team for team in teams_in_order(people, games) for _ in range(games[len(team)])]
+    dealt = [[] for _ in range(rounds)]
+    for turn, team in enumerate(reversed(playings)):
+        dealt[(turn * turn + 3 * turn) // 2 % rounds].append(team)
+    return dealt
+
+
+def some_plan(people, games, rounds):
+    return Plan(people, games, dealt_out(people, games, rounds))
+
+
+def partings(people):
+    """All ways to part so many people in classes, with the classes and their people in no special order."""
+    if people == 0:
+        return [[]]
+    found = []
+    for classes in partings(people - 1):
+        found.append([[people - 1], *classes])
+        for index in range(len(classes)):
+            found.append([*classes[:index], [people - 1, *classes[index]], *classes[index + 1 :]])
+    return found
+
+
+def numbers_without_order(first, modulus=2**31):
+    """Integers that follow no plain rule, the same ones each time, without an end."""
+    number = first
+    while True:
+        number = (1103515245 * number + 12345) % modulus
+        yield number >> 8
+
+
+def games_can_stand(people, line):
+    """Whether a line of a text tells games for so many people, judged without the package's own ways."""
+    if not re.fullmatch("games [1-4]:[1-3]( [1-4]:[1-3])?", line):
+        return False
+    games = [tuple(map(int, word.split(":"))) for word in line.split(" ")[1:]]
+    sizes = [size for size, _ in games]
+    return sizes == sorted(set(sizes)) and max(sizes) <= people and total(people, dict(games)) <= 130
+
+
 class Raising:
     """For a TestCase: whether a call raises just a certain error with the very values that it tells."""
 
@@ -121,3 +193,13 @@ class Raising:
             self.assert_raises("BadGames", [wrong], call, tuple(sizes), wrong, *rest)
         for sizes, games, count in TOO_MANY:
             self.assert_raises("TooMany", [count], call, sizes, games, *rest)
+
+    def assert_people_errors(self, call, *rest):
+        """The same for a number of people in the place of the sizes."""
+        for wrong in WRONG_PEOPLE:
+            self.assert_raises("BadPeople", [wrong], call, wrong, {2: 1}, *rest)
+            self.assert_raises("BadPeople", [wrong], call, wrong, None, *rest)
+        for sizes, wrong in WRONG_GAMES:
+            self.assert_raises("BadGames", [wrong], call, sum(sizes), wrong, *rest)
+        for sizes, games, count in TOO_MANY:
+            self.assert_raises("TooMany", [count], call, sum(sizes), games, *rest)

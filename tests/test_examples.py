@@ -41,7 +41,7 @@ def outcome(statement, names):
 class Examples(unittest.TestCase):
     def test_all(self):
         paths = sorted(FOLDER.glob("*.txt"))
-        self.assertEqual([path.stem for path in paths], ["kinds", "tables"])
+        self.assertEqual([path.stem for path in paths], ["kinds", "looks", "plans", "shares", "tables", "taking"])
         for path in paths:
             for pairs in examples(path.read_text()):
                 names = {}

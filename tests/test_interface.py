@@ -23,6 +23,16 @@ FUNCTIONS = {
         "team_kind": "(sizes, team)",
         "teams_of": "(sizes, kind)",
     },
+    "looks": {
+        "plays": "(plan)",
+        "uneven": "(plan, classes)",
+        "is_even": "(plan, classes)",
+        "is_full": "(plan)",
+        "meetings": "(plan, one, other)",
+        "rests": "(plan, person)",
+    },
+    "shares": {"dealt": "(rows, bottom)", "is_dealt": "(rows, bottom, given)"},
+    "taking": {"taken_out": "(table, index)", "steps": "(table)", "plan_of": "(table)"},
 }
 METHODS = {
     ("tables", "Table"): {
@@ -38,9 +48,20 @@ METHODS = {
         "moved": "(self, order)",
         "text": "(self)",
     },
+    ("plans", "Plan"): {
+        "__init__": "(self, people, games, rounds)",
+        "__len__": "(self)",
+        "__eq__": "(self, other)",
+        "__add__": "(self, other)",
+        "rounds_of": "(self, team)",
+        "outline": "(self, classes)",
+        "renamed": "(self, names)",
+        "moved": "(self, order)",
+        "text": "(self)",
+    },
 }
-PROPERTIES = {("tables", "Table"): ["sizes", "games", "rounds"]}
-CLASS_METHODS = {("tables", "Table"): {"read": "(cls, text)"}}
+PROPERTIES = {("tables", "Table"): ["sizes", "games", "rounds"], ("plans", "Plan"): ["people", "games", "rounds"]}
+CLASS_METHODS = {("tables", "Table"): {"read": "(cls, text)"}, ("plans", "Plan"): {"read": "(cls, text)"}}
 
 BUILTINS = """
     len range enumerate zip min max sum abs sorted reversed int str bool bytes list tuple dict set frozenset isinstance
@@ -184,6 +205,19 @@ class Language(unittest.TestCase):
                     self.fail(f"{path.name}: look whether L24 allows this set, line {node.lineno}")
                 if isinstance(node, ast.Compare) and any(isinstance(sign, (ast.Is, ast.IsNot)) for sign in node.ops):
                     self.assertIn(getattr(node.comparators[0], "value", 0), (None, True, False))
+
+    def test_what_is_iterated_at_once_is_not_stored(self):
+        for path, tree in self.trees.items():
+            for node in ast.walk(tree):
+                if isinstance(node, (ast.Assign, ast.Return)) and isinstance(node.value, ast.Call):
+                    called = getattr(node.value.func, "id", getattr(node.value.func, "attr", None))
+                    self.assertNotIn(called, ["range", "zip", "enumerate", "reversed", "items", "keys", "values"], path)
+
+    def test_not_implemented_is_only_returned(self):
+        for path, tree in self.trees.items():
+            told = [node for node in ast.walk(tree) if isinstance(node, ast.Name) and node.id == "NotImplemented"]
+            returned = [node.value for node in ast.walk(tree) if isinstance(node, ast.Return)]
+            self.assertEqual([node for node in told if node not in returned], [], path)
 
     def test_no_name_is_a_method_here_and_an_attribute_there(self):
         methods, attributes = set(), set()

@@ -1,12 +1,11 @@
 """Points 24 and 25: the texts of tables."""
 
-import math
 import re
 import unittest
 
 from allteams.errors import BadText
 from allteams.tables import Table
-from tests.support import NO_LISTS, SETTINGS, Raising, kinds_in_order
+from tests.support import NO_LISTS, SETTINGS, Raising, games_can_stand, kinds_in_order
 from tests.test_tables import added_up, filled
 
 TEXTS = [
@@ -30,12 +29,7 @@ def can_stand(before, line):
         return right and sum(sizes) <= 10
     sizes = [int(word) for word in before[0].split(" ")[1:]]
     if len(before) == 1:
-        if not re.fullmatch("games [1-4]:[1-3]( [1-4]:[1-3])?", line):
-            return False
-        games = [tuple(map(int, word.split(":"))) for word in words[1:]]
-        told = [size for size, _ in games]
-        count = sum(times * math.comb(sum(sizes), size) for size, times in games)
-        return told == sorted(set(told)) and max(told) <= sum(sizes) and count <= 130
+        return games_can_stand(sum(sizes), line)
     told = [int(word[0]) for word in before[1].split(" ")[1:]]
     if words[0] != "round" or not all(re.fullmatch("[0-9,]+:[1-9][0-9]{0,29}", word) for word in words[1:]):
         return False

@@ -3,7 +3,9 @@
 import unittest
 
 from allteams.errors import BadText
-from allteams.texts import games_in, games_line, integer_in, line_at, lines_of, words_behind
+from allteams.texts import (
+    comma_word, games_in, games_line, integer_in, line_at, lines_of, rounds_in, words_behind,
+)
 from tests.support import NO_LISTS
 
 
@@ -40,6 +42,21 @@ class Lines(unittest.TestCase):
         self.assertEqual(games_line({3: 1, 2: 2}), "games 2:2 3:1")
         self.assertIsNone(games_in("games 4:1", 3))
         self.assertIsNone(games_in("games 4:1", 10))
+
+    def test_words_of_several_integers(self):
+        self.assertEqual([comma_word((1, 0, 10)), comma_word((7,))], ["1,0,10", "7"])
+
+    def test_rounds(self):
+        def reading(line, words):
+            return words.get(line)
+
+        words = {"a": [1], "b": []}
+        self.assertEqual(rounds_in(["x", "y", "a", "b", "a"], reading, words), [[1], [], [1]])
+        self.assertEqual(rounds_in(["", ""] + ["a"] * 130, reading, words), [[1]] * 130)
+        for lines, line in [(["a"], 3), (["a", "a"], 3), (["a"] * 3 + ["c", "a"], 4), (["a"] * 133, 133), (["a"] * 500, 133)]:
+            with self.assertRaises(BadText) as caught:
+                rounds_in(lines, reading, words)
+            self.assertEqual(caught.exception.line, line)
 
 
 if __name__ == "__main__":
