@@ -124,7 +124,8 @@ def check_times(people, games, rounds):
     """Raise WrongTimes unless each team plays as often as the games tell."""
     played = [team for teams in rounds for team in teams]
     for team in all_teams(people, games):
-        count = played.count(team)
+        # Addition runs this, and an operator calls nothing by a name like count, which errors have as an attribute.
+        count = len([one for one in played if one == team])
         if count != games[len(team)]:
             raise WrongTimes(team, count)
 

@@ -107,6 +107,44 @@ def bound(tree):
             yield node.id
 
 
+def stored(trees):
+    """The names of all attributes that are assigned."""
+    nodes = [node for tree in trees for node in ast.walk(tree) if isinstance(node, ast.Attribute)]
+    return {node.attr for node in nodes if isinstance(node.ctx, ast.Store)}
+
+
+def methods_of(trees):
+    """The methods of all classes, each with its name."""
+    classes = [node for tree in trees for node in ast.walk(tree) if isinstance(node, ast.ClassDef)]
+    return [(row.name, row) for found in classes for row in found.body if isinstance(row, ast.FunctionDef)]
+
+
+def run_by_operators(trees):
+    """What operators, properties, == and len run, also through what they call, with the names of the methods called."""
+    known = {}
+    for node in [node for tree in trees for node in ast.walk(tree)]:
+        if isinstance(node, ast.FunctionDef):
+            known.setdefault(node.name, []).append(node)
+        if isinstance(node, ast.ClassDef):
+            made = [row for row in node.body if isinstance(row, ast.FunctionDef) and row.name == "__init__"]
+            known.setdefault(node.name, []).extend(made)
+    waiting = [
+        node for name, node in methods_of(trees)
+        if re.fullmatch("__.*__", name) and name not in ("__init__", "__enter__", "__exit__", "__call__")
+        or any(getattr(told, "id", None) == "property" for told in node.decorator_list)
+    ]
+    found, called = [], set()
+    while waiting:
+        node = waiting.pop()
+        if node not in found:
+            found.append(node)
+            for call in [part for part in ast.walk(node) if isinstance(part, ast.Call)]:
+                if isinstance(call.func, ast.Attribute):
+                    called.add(call.func.attr)
+                waiting += known.get(getattr(call.func, "id", getattr(call.func, "attr", None)), [])
+    return {node.name for node in found}, called
+
+
 class Interface(unittest.TestCase):
     def test_functions(self):
         for module, functions in FUNCTIONS.items():
@@ -220,18 +258,40 @@ class Language(unittest.TestCase):
             self.assertEqual([node for node in told if node not in returned], [], path)
 
     def test_no_name_is_a_method_here_and_an_attribute_there(self):
-        methods, attributes = set(), set()
-        for tree in self.trees.values():
-            for node in ast.walk(tree):
-                if isinstance(node, ast.ClassDef):
-                    methods |= {row.name for row in node.body if isinstance(row, ast.FunctionDef)}
-                if isinstance(node, ast.Attribute) and isinstance(node.ctx, ast.Store):
-                    attributes.add(node.attr)
+        attributes = stored(self.trees.values())
+        methods = {name for name, _ in methods_of(self.trees.values())}
         self.assertEqual(methods & attributes, set())
         told = {name for name in methods if not name.startswith("__")}
         self.assertEqual({name for name in told for kind in BUILTIN_VALUES if hasattr(kind, name)}, set())
         allowed = {"count", "index", "title", "find", "get", "join", "lower", "upper", "split", "strip", "copy", "add"}
         self.assertEqual({name for name in attributes for kind in BUILTIN_VALUES if hasattr(kind, name)} - allowed, set())
+
+    def test_what_operators_and_properties_run_calls_no_name_of_an_attribute(self):
+        names, called = run_by_operators(self.trees.values())
+        self.assertLessEqual({"__add__", "__eq__", "__len__", "rounds", "check_times", "parts_of"}, names)
+        self.assertIn("get", called)
+        self.assertEqual(called & stored(self.trees.values()), set())
+
+    def test_calls_of_operators_are_looked_at(self):
+        code = """
+class Box:
+    def __init__(self, rows):
+        self.count = told(rows)
+    def __len__(self):
+        return len(self.many)
+    @property
+    def many(self):
+        return [far(self)]
+    def free(self):
+        return self.rows.pop()
+def told(rows):
+    return rows.index(1)
+def far(box):
+    return Box([]).near()
+"""
+        names, called = run_by_operators([ast.parse(code)])
+        self.assertEqual((names, called), ({"__len__", "many", "far", "__init__", "told"}, {"near", "index"}))
+        self.assertEqual(stored([ast.parse(code)]), {"count"})
 
 
 if __name__ == "__main__":
