@@ -8,6 +8,7 @@ from allteams.errors import TeamError
 from tests.support import ATTRIBUTES
 
 FOLDER = Path(__file__).parent / "examples"
+FILES = ["evens", "growth", "kinds", "looks", "pairs", "plans", "shares", "tables", "taking"]
 
 
 def examples(text):
@@ -41,7 +42,7 @@ def outcome(statement, names):
 class Examples(unittest.TestCase):
     def test_all(self):
         paths = sorted(FOLDER.glob("*.txt"))
-        self.assertEqual([path.stem for path in paths], ["kinds", "looks", "plans", "shares", "tables", "taking"])
+        self.assertEqual([path.stem for path in paths], FILES)
         for path in paths:
             for pairs in examples(path.read_text()):
                 names = {}

@@ -33,6 +33,13 @@ FUNCTIONS = {
     },
     "shares": {"dealt": "(rows, bottom)", "is_dealt": "(rows, bottom, given)"},
     "taking": {"taken_out": "(table, index)", "steps": "(table)", "plan_of": "(table)"},
+    "evens": {
+        "even_plan": "(people, games, numbers)",
+        "full_plan": "(people, team, *, times=1)",
+        "fewest_rounds": "(people, team, *, times=1)",
+    },
+    "growth": {"grown": "(plan, people)", "keeps": "(plan, old)"},
+    "pairs": {"finished": "(old, people, rounds)", "least_pairs": "(old, people)"},
 }
 METHODS = {
     ("tables", "Table"): {
