@@ -6,8 +6,6 @@ from allteams.kinds import MOST_PEOPLE, is_team, parts_of
 from allteams.tables import Table
 from allteams.taking import plan_of
 
-PAIRS = {2: 1}
-
 
 def finished(old, people, rounds):
     """Return a full plan of all pairs, each round of which has the pairs that are fixed among the old people."""
@@ -22,7 +20,7 @@ def finished(old, people, rounds):
     sizes = [1] * old
     if people > old:
         sizes.append(people - old)
-    return plan_of(Table(sizes, PAIRS, [fixed_row(old, people, row) for row in rounds]))
+    return plan_of(Table(sizes, {2: 1}, [fixed_row(old, people, row) for row in rounds]))
 
 
 def least_pairs(old, people):

@@ -8,7 +8,9 @@ from allteams.errors import TeamError
 from tests.support import ATTRIBUTES
 
 FOLDER = Path(__file__).parent / "examples"
-FILES = ["evens", "growth", "kinds", "looks", "pairs", "plans", "shares", "tables", "taking"]
+FILES = """
+    barred clashes desk evens growth kinds looks pairs plans shares tables taking wishes
+""".split()
 
 
 def examples(text):
