@@ -123,6 +123,15 @@ class Texts(Raising, unittest.TestCase):
             self.assert_raises("BadWish", [5], Wishes, f"{HEAD}\ncost 1 old in 0-0\n{line}\n~")
         self.assert_raises("BadWish", [5], Wishes, f"{HEAD}\ncost 1 old in 0-0\nrounds 1 2:0")
 
+    def test_the_longest_and_the_most_names(self):
+        for line, names in [
+            ("classes abcdefgh 2 z 2", ("abcdefgh", "z")), ("classes abcdefgh 1 abcdefg 3", ("abcdefgh", "abcdefg")),
+            ("classes in 2 of 2", ("in", "of")), ("classes old 4", ("old",)),
+        ]:
+            self.assertEqual(Wishes(HEAD.replace("classes old 2 young 2", line)).names, names)
+        line = " ".join(["classes", *(f"{name} 1" for name in "abcdefghij")])
+        self.assertEqual(Wishes(f"{line}\ngames 1:1\nrounds 1 1:10").names, tuple("abcdefghij"))
+
     def test_130_rounds(self):
         head = "classes a 10\ngames 1:1 3:1\nrounds 10 1:1\n"
         self.assertEqual(len(Wishes(head + "rounds 120 3:1").numbers), 130)

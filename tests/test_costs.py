@@ -114,7 +114,8 @@ class Cheapest(Raising, unittest.TestCase):
         for sizes, games, numbers in SMALL:
             for cost in (-1000, 1000):
                 every = dict.fromkeys(product(range(len(numbers)), kinds_in_order(sizes, games)), cost)
-                self.assertEqual(self.assert_cheapest(sizes, games, numbers, every, ()), cost * sum(dues(sizes, games).values()))
+                found = self.assert_cheapest(sizes, games, numbers, every, ())
+                self.assertEqual(found, cost * sum(dues(sizes, games).values()))
 
     def test_equal_arguments_give_equal_results(self):
         for sizes, games, numbers, costs, barred in large_cases():

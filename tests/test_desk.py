@@ -197,7 +197,8 @@ class Deeds(Checks, unittest.TestCase):
         desk.settle(0, (1, 1), 9)
         self.assertEqual((desk.possible(), desk.range_of(0, (1, 1)), desk.plan()), (False, None, None))
         desk.settle(0, (1, 1), 0)
-        self.assertEqual((desk.settled(), desk.range_of(0, (1, 1)), desk.range_of(0, (2, 0))), ({(0, (1, 1)): 0}, (0, 0), (1, 1)))
+        self.assertEqual(desk.settled(), {(0, (1, 1)): 0})
+        self.assertEqual((desk.range_of(0, (1, 1)), desk.range_of(0, (2, 0))), ((0, 0), (1, 1)))
         desk.undo()
         self.assertEqual((desk.settled(), len(desk)), ({(0, (1, 1)): 9}, 1))
 
@@ -317,10 +318,13 @@ class Trials(Checks, unittest.TestCase):
         passed = []
         for value in (None, 5, [], desk):
             self.assertIs(desk.tried(lambda held: value), value)
-        told = desk.tried(lambda held: [passed.append(held), held.undo(), held.add(LINES[0]), len(held), held.range_of(1, (1, 1))])
+        told = desk.tried(
+            lambda held: [passed.append(held), held.undo(), held.add(LINES[0]), len(held), held.range_of(1, (1, 1))]
+        )
         self.assertEqual((told, passed[0] is desk), ([None, None, None, 1, (0, 2)], True))
         self.assertEqual((len(desk), desk.settled(), desk.book().lines), (1, {(1, (1, 1)): 0}, []))
-        self.assertEqual(desk.tried(lambda held: [held.undo(), held.tried(lambda again: again.add(LINES[0])), len(held)]), [None, None, 0])
+        told = desk.tried(lambda held: [held.undo(), held.tried(lambda again: again.add(LINES[0])), len(held)])
+        self.assertEqual(told, [None, None, 0])
         self.assertEqual(len(desk), 1)
 
     def test_errors_leave_tried(self):

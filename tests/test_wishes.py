@@ -24,7 +24,8 @@ def large_books(rounds, wishes, charges):
         chance = random.Random(f"{sizes} {games} {many} {turn}")
         head = head_of(sizes, games, some_numbers(sizes, games, many, chance))
         book = Book(head)
-        lines = [some_wish(book, chance) for _ in range(turn * wishes)] + [some_charge(book, chance) for _ in range(charges)]
+        lines = [some_wish(book, chance) for _ in range(turn * wishes)]
+        lines += [some_charge(book, chance) for _ in range(charges)]
         chance.shuffle(lines)
         yield "\n".join([head, *lines])
 
@@ -74,8 +75,9 @@ class Barred(Raising, unittest.TestCase):
 
     def test_edges(self):
         for line, kinds in [
-            ("each 0-9 a in 0-0", []), ("each 0-0 a in 0-0", [(1, 0), (1, 1), (2, 0)]), ("each 2-9 a in 0-0", [(0, 1), (1, 0), (1, 1)]),
-            ("each 9-9 b in 0-0 of 1", [(0, 1), (1, 0)]), ("each 1-1 a in 0-0 of 2", [(2, 0)]),
+            ("each 0-9 a in 0-0", []), ("each 0-0 a in 0-0", [(1, 0), (1, 1), (2, 0)]),
+            ("each 2-9 a in 0-0", [(0, 1), (1, 0), (1, 1)]), ("each 9-9 b in 0-0 of 1", [(0, 1), (1, 0)]),
+            ("each 1-1 a in 0-0 of 2", [(2, 0)]),
             ("each 1-2 a in 0-0", [(0, 1)]), ("each 0-1 a in 0-0", [(2, 0)]), ("each 1-9 b in 0-0 of 2", [(2, 0)]),
         ]:
             self.assertEqual(Wishes(f"{MIXED}\n{line}").barred(), [(0, kind) for kind in kinds])
@@ -87,7 +89,8 @@ class Costs(unittest.TestCase):
             self.assertEqual(Wishes(text).costs(), Book(text).costs())
 
     def test_costs_that_come_to_0_are_left_out(self):
-        wishes = Wishes(MIXED + "\ncost 2 a in 0-1\ncost -2 a in 1-2\ncost 0 b in 0-2\ncost 4 b in 2-2\ncost -2 b in 2-2 of 2")
+        lines = ["cost 2 a in 0-1", "cost -2 a in 1-2", "cost 0 b in 0-2", "cost 4 b in 2-2", "cost -2 b in 2-2 of 2"]
+        wishes = Wishes("\n".join([MIXED, *lines]))
         told = {(0, (1, 0)): 2, (0, (1, 1)): 2, (0, (2, 0)): 4, (2, (0, 1)): 4, (2, (1, 0)): -2, (2, (2, 0)): -4}
         self.assertEqual(wishes.costs(), told)
 
@@ -113,7 +116,8 @@ class Looking(Raising, unittest.TestCase):
         self.assertGreater(broken, 100)
 
     def test_team_sizes_that_the_book_does_not_have(self):
-        wishes = Wishes("classes a 2 b 2\ngames 2:1\nrounds 1 2:6\neach 0-1 a in 0-0\neach 0-1 a in 0-0 of 2\ncost 3 b in 0-0")
+        lines = ["each 0-1 a in 0-0", "each 0-1 a in 0-0 of 2", "cost 3 b in 0-0"]
+        wishes = Wishes("\n".join(["classes a 2 b 2", "games 2:1", "rounds 1 2:6", *lines]))
         plan = Plan(4, {3: 1}, [[(0, 1, 2), (0, 1, 3), (0, 2, 3), (1, 2, 3)]])
         self.assertEqual([wishes.broken(plan), wishes.cost_of(plan)], [[0], 18])
 
